@@ -1,0 +1,1 @@
+"""Seatroads: places, waiting lists and late truths."""

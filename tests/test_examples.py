@@ -1,0 +1,41 @@
+"""Section 15: the examples that the modules so far can answer."""
+
+import unittest
+
+from seatroads.courses import Course
+from seatroads.offices import Office
+from seatroads.reach import gone_and_come
+from seatroads.roads import roads
+from seatroads.runs import run_of
+
+
+class ExamplesTest(unittest.TestCase):
+
+    def setUp(self):
+        office = Office({"red": []})
+        events = {1: ("place", "red"), 2: ("come", "ann", ["red"], 0, None), 3: ("come", "bob", ["red"], 0, None),
+                  4: ("place", "red")}
+        self.course = Course(office, events)
+
+    def test_letters(self):
+        self.assertEqual(run_of(self.course).letters(), [(2, "ann", "red"), (4, "bob", "red")])
+
+    def test_roads(self):
+        self.assertEqual([(road.higher, road.steps) for road in roads(self.course, [("strike", 2)])], [
+            ("old", ((2, None, ("free", "red")), (3, ("free", "red"), ("waits", "bob")),
+                     (4, ("waits", "bob"), ("free", "red"))))])
+
+    def test_gone_and_come(self):
+        self.assertEqual(gone_and_come(self.course, [("strike", 2)]), (
+            [(2, "ann", "red"), (4, "bob", "red")], [(3, "bob", "red")]))
+
+    def test_the_round_that_is_best_for_people(self):
+        ranks = Office({"a": ["points"], "b": ["few"]})
+        course = Course(ranks, {1: ("gather",), 2: ("come", "x", ["a", "b"], 1, None),
+                                3: ("come", "y", ["b", "a"], 2, None), 4: ("place", "a"), 5: ("place", "b"),
+                                6: ("round",)})
+        self.assertEqual(run_of(course).letters(), [(6, "x", "a"), (6, "y", "b")])
+
+
+if __name__ == "__main__":
+    unittest.main()

@@ -1,0 +1,90 @@
+"""The interface: names, parameters, and the very files in which they are defined."""
+
+import importlib
+import inspect
+import unittest
+
+from seatroads.courses import Course
+from seatroads.offices import Office
+from seatroads.roads import roads
+from seatroads.runs import run_of
+
+FUNCTIONS = {
+    "events": {"is_event": ["office", "thing"]},
+    "runs": {"run_of": ["course"]},
+    "truths": {"is_truth": ["office", "thing"]},
+    "roads": {"roads": ["course", "truths"]},
+    "reach": {
+        "gone_and_come": ["course", "truths"],
+        "unlike_at": ["course", "truths", "time"],
+        "even_from": ["course", "truths"],
+        "touched": ["course", "truths"],
+    },
+    "explained": {
+        "map_of_person": ["course", "wishes", "home"],
+        "map_of_place": ["course", "kind"],
+        "explained": ["course", "menu", "letters"],
+    },
+}
+
+CLASSES = {
+    "offices": {"Office": {"kinds": [], "rank": ["kind"], "__eq__": None, "__len__": [], "__contains__": None}},
+    "courses": {"Course": {
+        "events": [], "with_truths": ["truths"], "__eq__": None, "__len__": [], "__contains__": None}},
+    "runs": {"Run": {
+        "letters": [], "waiting": ["time"], "free": ["time"], "list_of": ["kind", "time"],
+        "letter_of": ["name"], "__eq__": None}},
+    "roads": {"Road": {"at": ["time"], "end": []}},
+    "known": {"Known": {
+        "hear": ["truth"], "heard": [], "course": [], "letters": [], "waiting": ["time"], "free": ["time"]}},
+}
+
+MADE_BY_CALLERS = {"Office": ["ranks"], "Course": ["office", "events"], "Known": ["course"]}
+
+
+def parameters(function):
+    return list(inspect.signature(function).parameters)
+
+
+class InterfaceTest(unittest.TestCase):
+
+    def test_functions_stand_in_their_files_with_their_parameters(self):
+        for file, told in FUNCTIONS.items():
+            module = importlib.import_module("seatroads." + file)
+            for name, wanted in told.items():
+                function = getattr(module, name)
+                self.assertTrue(inspect.isfunction(function), name)
+                self.assertEqual(function.__module__, "seatroads." + file)
+                self.assertEqual(parameters(function), wanted, name)
+
+    def test_classes_define_their_methods_themselves(self):
+        for file, told in CLASSES.items():
+            module = importlib.import_module("seatroads." + file)
+            for name, methods in told.items():
+                made = getattr(module, name)
+                self.assertTrue(inspect.isclass(made))
+                self.assertEqual(made.__module__, "seatroads." + file)
+                for method, wanted in methods.items():
+                    self.assertIn(method, vars(made), name)
+                    if wanted is not None:
+                        self.assertEqual(parameters(vars(made)[method])[1:], wanted, method)
+
+    def test_classes_are_made_with_the_shown_parameters(self):
+        for told in CLASSES.values():
+            for name in told:
+                if name in MADE_BY_CALLERS:
+                    file = [file for file in CLASSES if name in CLASSES[file]][0]
+                    made = getattr(importlib.import_module("seatroads." + file), name)
+                    self.assertEqual(parameters(made), MADE_BY_CALLERS[name])
+
+    def test_attributes_are_set_when_objects_are_made(self):
+        office = Office({"red": []})
+        course = Course(office, {1: ("place", "red")})
+        self.assertIs(course.office, office)
+        self.assertIs(run_of(course).whole, course)
+        road, = roads(course, [("strike", 1)])
+        self.assertEqual(sorted(vars(road)), ["higher", "steps", "truth"])
+
+
+if __name__ == "__main__":
+    unittest.main()
