@@ -27,7 +27,7 @@ class Course:
         """The course behind a list of truths, one after the other."""
         if not is_list(truths):
             raise BadTruth(0)
-        events = dict(self._events)
+        events = self._events
         for index, truth in enumerate(truths):
             if not is_truth(self.office, truth) or not _can_be_heard(events, truth):
                 raise BadTruth(index)
@@ -67,10 +67,10 @@ def _can_be_heard(events, truth):
 
 
 def _heard(events, truth):
-    """The events behind a truth that fits them."""
+    """The events behind a truth that fits them, in a dict of their own."""
     later = dict(events)
     if truth[0] == "strike":
         del later[truth[1]]
     else:
-        later[truth[1]] = frozen(truth[2])
+        later[truth[1]] = truth[2]
     return later

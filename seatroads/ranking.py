@@ -21,4 +21,4 @@ def _place_in_rank(words, kind, person):
         "early": time,
         "late": -time,
     }
-    return tuple([by_word[word] for word in words] + [time])
+    return [by_word[word] for word in words] + [time]

@@ -42,7 +42,8 @@ def roads(course, truths):
     found = []
     known = run_of(course)
     for index, truth in enumerate(truths):
-        for part, higher in _parts(known.whole.events(), index, truth):
+        parts = _parts(known.whole.events(), index, truth)
+        for part, higher in parts:
             heard = run_of(known.whole.with_truths([part]))
             found.append(Road(index, higher, _steps(known, heard, higher)))
             known = heard
