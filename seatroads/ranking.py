@@ -4,11 +4,11 @@ People are told here as tuples (name, wishes, points, home, time).
 """
 
 
-def ranked(office, kind, people):
-    """Those of the people who let the kind, the first in its rank first."""
+def names_in_rank(office, kind, people):
+    """The names of those of the people who let the kind, the first in its rank first."""
     words = office.rank(kind)
     letting = [person for person in people if kind in person[1]]
-    return sorted(letting, key=lambda person: _place_in_rank(words, kind, person))
+    return [person[0] for person in sorted(letting, key=lambda person: _place_in_rank(words, kind, person))]
 
 
 def _place_in_rank(words, kind, person):

@@ -3,7 +3,7 @@
 from seatroads.checks import is_name, is_time
 from seatroads.errors import BadKind, BadTime, NoPerson
 from seatroads.events import name_told
-from seatroads.ranking import ranked
+from seatroads.ranking import names_in_rank
 from seatroads.standing import Standing
 
 
@@ -43,7 +43,7 @@ class Run:
         if kind not in self.whole.office:
             raise BadKind(kind)
         people, _ = self._behind(time)
-        return [person[0] for person in ranked(self.whole.office, kind, people)]
+        return names_in_rank(self.whole.office, kind, people)
 
     def letter_of(self, name):
         """The letter of somebody who comes in the course, None if they have none."""

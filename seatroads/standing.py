@@ -1,7 +1,7 @@
 """Who waits and what stands free, while events are heard one after another."""
 
 from seatroads.asking import best_for_people
-from seatroads.ranking import ranked
+from seatroads.ranking import names_in_rank
 
 
 class Standing:
@@ -61,11 +61,11 @@ class Standing:
             self._letters.append((time, name, there[0]))
 
     def _bring(self, time, kind):
-        letting = ranked(self._office, kind, self.people())
+        letting = names_in_rank(self._office, kind, self.people())
         if self._gathered or not letting:
             self._free[kind] = self._free.get(kind, 0) + 1
         else:
-            self._give(time, letting[0][0], kind)
+            self._give(time, letting[0], kind)
 
     def _give(self, time, name, kind):
         del self._waiting[name]
@@ -85,12 +85,8 @@ class Standing:
 
     def _meet(self, time):
         people = self.people()
-        names = {kind: _names(ranked(self._office, kind, people)) for kind in self._office.kinds()}
+        names = {kind: names_in_rank(self._office, kind, people) for kind in self._office.kinds()}
         given = best_for_people({person[0]: person[1] for person in people}, names, self._free)
         for name in sorted(given):
             self._take_away(given[name])
             self._give(time, name, given[name])
-
-
-def _names(people):
-    return [person[0] for person in people]

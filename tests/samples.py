@@ -4,7 +4,9 @@ import random
 
 from seatroads.courses import Course
 from seatroads.known import Known
+from seatroads.ledgers import Ledger
 from seatroads.offices import Office
+from seatroads.rounds import Meeting
 from seatroads.runs import run_of
 
 PLAIN = {"red": []}
@@ -21,7 +23,7 @@ def odd_objects():
     return [
         None, True, False, -1, 10 ** 6 + 1, 10 ** 30, "", "Red", "a b", "ninesigns", "red ", "r\tx", [], (), {},
         [None], (True,), [[]], ((),), {"red": 1}, {None: None}, ["red", ["red"]], ("put",), ["strike"],
-        office, course, run_of(course), Known(course), [office], {1: course},
+        office, course, run_of(course), Known(course), [office], {1: course}, Meeting(office, [], {}), Ledger(),
     ]
 
 

@@ -3,9 +3,12 @@
 import unittest
 
 from seatroads.courses import Course
+from seatroads.entries import books_of
+from seatroads.lattices import turns
 from seatroads.offices import Office
 from seatroads.reach import gone_and_come
 from seatroads.roads import roads
+from seatroads.rounds import Meeting, best
 from seatroads.runs import run_of
 
 
@@ -28,6 +31,18 @@ class ExamplesTest(unittest.TestCase):
     def test_gone_and_come(self):
         self.assertEqual(gone_and_come(self.course, [("strike", 2)]), (
             [(2, "ann", "red"), (4, "bob", "red")], [(3, "bob", "red")]))
+
+    def test_books(self):
+        self.assertEqual(books_of(run_of(self.course), (3, {"red": 5}))[1:], [
+            (3, [("bob", "coin", -3), ("the-pool", "coin", 3)]),
+            (4, [("bob", "coin", -2), ("bob", "seat", 1), ("the-pool", "coin", -3), ("the-till", "coin", 5),
+                 ("the-till", "seat", -1)])])
+
+    def test_rounds(self):
+        ranks = Office({"a": ["points"], "b": ["few"]})
+        meeting = Meeting(ranks, [("x", ["a", "b"], 1, None), ("y", ["b", "a"], 2, None)], {"a": 1, "b": 1})
+        self.assertEqual([best(meeting), best(meeting, "kinds"), turns(meeting)], [
+            {"x": "a", "y": "b"}, {"x": "b", "y": "a"}, [(("x", "a", "b"), ("y", "b", "a"))]])
 
     def test_the_round_that_is_best_for_people(self):
         ranks = Office({"a": ["points"], "b": ["few"]})

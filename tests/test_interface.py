@@ -5,6 +5,7 @@ import inspect
 import unittest
 
 from seatroads.courses import Course
+from seatroads.ledgers import Ledger
 from seatroads.offices import Office
 from seatroads.roads import roads
 from seatroads.runs import run_of
@@ -25,7 +26,42 @@ FUNCTIONS = {
         "map_of_place": ["course", "kind"],
         "explained": ["course", "menu", "letters"],
     },
+    "rounds": {
+        "would_rather": ["meeting", "matching"],
+        "is_stable": ["meeting", "thing"],
+        "best": ["meeting", "side"],
+        "refusals": ["meeting"],
+        "is_refusals": ["meeting", "thing"],
+    },
+    "walks": {
+        "one_more": ["meeting", "person"],
+        "one_more_place": ["meeting", "kind"],
+        "told_otherwise": ["meeting", "name", "wishes"],
+        "told_less": ["meeting", "name"],
+    },
+    "lattices": {
+        "stable_ones": ["meeting"],
+        "how_many_stable": ["meeting"],
+        "stable_number": ["meeting", "matching"],
+        "stable_at": ["meeting", "number"],
+        "can_pairs": ["meeting"],
+        "sure_pairs": ["meeting"],
+        "both_better": ["meeting", "one", "other"],
+        "both_worse": ["meeting", "one", "other"],
+        "turns": ["meeting"],
+        "needs": ["meeting"],
+        "turned": ["meeting", "numbers"],
+    },
+    "entries": {
+        "told_rows": ["rows"],
+        "is_balanced": ["rows"],
+        "corrections": ["one", "other"],
+        "books_of": ["run", "fees"],
+    },
+    "ledgers": {"ledger_of": ["office", "hearings", "fees"]},
 }
+
+DEFAULTS = {("rounds", "best"): ("people",)}
 
 CLASSES = {
     "offices": {"Office": {"kinds": [], "rank": ["kind"], "__eq__": None, "__len__": [], "__contains__": None}},
@@ -37,9 +73,23 @@ CLASSES = {
     "roads": {"Road": {"at": ["time"], "end": []}},
     "known": {"Known": {
         "hear": ["truth"], "heard": [], "course": [], "letters": [], "waiting": ["time"], "free": ["time"]}},
+    "rounds": {"Meeting": {"people": [], "free": [], "ranked": ["kind"], "__eq__": None}},
+    "ledgers": {"Ledger": {
+        "deeds": [], "more": ["deed"], "booked": [],
+        "balance": ["account", "thing", "known", "valid"], "shown": ["account", "thing", "known", "valid"],
+        "balances": ["known", "valid"], "shown_balances": ["known", "valid"], "gap": ["known", "valid"],
+        "known_steps": ["account", "thing", "valid"], "restated": ["one", "other", "valid"],
+        "first_below": ["account", "thing", "floor", "known"], "seen_below": ["account", "thing", "floor"],
+        "__len__": [], "__eq__": None}},
 }
 
-MADE_BY_CALLERS = {"Office": ["ranks"], "Course": ["office", "events"], "Known": ["course"]}
+MADE_BY_CALLERS = {
+    "Office": ["ranks"],
+    "Course": ["office", "events"],
+    "Known": ["course"],
+    "Meeting": ["office", "people", "free"],
+    "Ledger": ["deeds"],
+}
 
 
 def parameters(function):
@@ -56,6 +106,7 @@ class InterfaceTest(unittest.TestCase):
                 self.assertTrue(inspect.isfunction(function), name)
                 self.assertEqual(function.__module__, "seatroads." + file)
                 self.assertEqual(parameters(function), wanted, name)
+                self.assertEqual(function.__defaults__ or (), DEFAULTS.get((file, name), ()), name)
 
     def test_classes_define_their_methods_themselves(self):
         for file, told in CLASSES.items():
@@ -82,6 +133,7 @@ class InterfaceTest(unittest.TestCase):
         course = Course(office, {1: ("place", "red")})
         self.assertIs(course.office, office)
         self.assertIs(run_of(course).whole, course)
+        self.assertEqual(inspect.signature(Ledger).parameters["deeds"].default, ())
         road, = roads(course, [("strike", 1)])
         self.assertEqual(sorted(vars(road)), ["higher", "steps", "truth"])
 
