@@ -3,9 +3,12 @@
 import random
 
 from seatroads.courses import Course
+from seatroads.debts import Debts
 from seatroads.known import Known
 from seatroads.ledgers import Ledger
 from seatroads.offices import Office
+from seatroads.queues import Queues
+from seatroads.rings import Exchange
 from seatroads.rounds import Meeting
 from seatroads.runs import run_of
 
@@ -24,6 +27,7 @@ def odd_objects():
         None, True, False, -1, 10 ** 6 + 1, 10 ** 30, "", "Red", "a b", "ninesigns", "red ", "r\tx", [], (), {},
         [None], (True,), [[]], ((),), {"red": 1}, {None: None}, ["red", ["red"]], ("put",), ["strike"],
         office, course, run_of(course), Known(course), [office], {1: course}, Meeting(office, [], {}), Ledger(),
+        Queues({}, []), Debts({}, {}), Exchange({}, {}, {}, {}),
     ]
 
 

@@ -6,10 +6,12 @@ from seatroads.courses import Course
 from seatroads.entries import books_of
 from seatroads.lattices import turns
 from seatroads.offices import Office
+from seatroads.queues import Queues
 from seatroads.reach import gone_and_come
 from seatroads.roads import roads
 from seatroads.rounds import Meeting, best
 from seatroads.runs import run_of
+from seatroads.settling import in_turn, paid, paper
 
 
 class ExamplesTest(unittest.TestCase):
@@ -43,6 +45,11 @@ class ExamplesTest(unittest.TestCase):
         meeting = Meeting(ranks, [("x", ["a", "b"], 1, None), ("y", ["b", "a"], 2, None)], {"a": 1, "b": 1})
         self.assertEqual([best(meeting), best(meeting, "kinds"), turns(meeting)], [
             {"x": "a", "y": "b"}, {"x": "b", "y": "a"}, [(("x", "a", "b"), ("y", "b", "a"))]])
+
+    def test_queues(self):
+        queues = Queues({"a": {"coin": 1}}, [[("a", "coin", 2, "b")], [("b", "coin", 1, "a")], [("b", "coin", 1, "c")]])
+        self.assertEqual([paid(queues), in_turn(queues), paid(queues.first(1)), paper(queues.first(1))],
+                         [[0, 1, 2], [], [], [(0, ("short", "a", "coin"))]])
 
     def test_the_round_that_is_best_for_people(self):
         ranks = Office({"a": ["points"], "b": ["few"]})

@@ -59,9 +59,51 @@ FUNCTIONS = {
         "books_of": ["run", "fees"],
     },
     "ledgers": {"ledger_of": ["office", "hearings", "fees"]},
+    "settling": {
+        "is_feasible": ["queues", "thing"],
+        "paid": ["queues"],
+        "holdings_after": ["queues", "numbers"],
+        "in_turn": ["queues"],
+        "bundles": ["queues", "numbers"],
+        "paper": ["queues"],
+        "is_paper": ["queues", "thing"],
+        "freed_by": ["queues", "number", "member", "thing"],
+        "least_freed": ["queues", "number", "thing"],
+    },
+    "debts": {
+        "is_payments": ["debts", "thing"],
+        "left_over": ["debts", "payments"],
+        "settlement": ["debts", "by_coins"],
+        "is_settlement": ["debts", "thing", "by_coins"],
+        "greatest_payments": ["debts"],
+        "least_payments": ["debts"],
+        "loose_rings": ["debts"],
+        "how_many_payments": ["debts"],
+    },
+    "failures": {
+        "fails": ["debts", "payments"],
+        "roots": ["debts"],
+        "hangs_on": ["debts", "who"],
+        "one_coin": ["debts", "member"],
+        "cover": ["debts", "who"],
+        "cover_by": ["debts", "who", "by"],
+        "coin_queues": ["debts"],
+    },
+    "rings": {
+        "rings": ["exchange", "way"],
+        "is_way": ["exchange", "thing"],
+        "way": ["exchange"],
+        "how_many_ways": ["exchange"],
+        "outcome": ["exchange"],
+    },
 }
 
-DEFAULTS = {("rounds", "best"): ("people",)}
+DEFAULTS = {
+    ("rounds", "best"): ("people",),
+    ("debts", "settlement"): (False,),
+    ("debts", "is_settlement"): (False,),
+    ("rings", "rings"): ((),),
+}
 
 CLASSES = {
     "offices": {"Office": {"kinds": [], "rank": ["kind"], "__eq__": None, "__len__": [], "__contains__": None}},
@@ -81,6 +123,15 @@ CLASSES = {
         "known_steps": ["account", "thing", "valid"], "restated": ["one", "other", "valid"],
         "first_below": ["account", "thing", "floor", "known"], "seen_below": ["account", "thing", "floor"],
         "__len__": [], "__eq__": None}},
+    "queues": {"Queues": {
+        "holdings": [], "all_items": [], "members": [], "things": [], "queue": ["member", "thing"], "more": ["items"],
+        "first": ["many"], "given": ["member", "thing", "many"], "__len__": [], "__eq__": None}},
+    "debts": {"Debts": {
+        "members": [], "coins": [], "debts": [], "owed": ["member"], "split": ["member", "many"],
+        "given": ["member", "many"], "__eq__": None}},
+    "rings": {"Exchange": {
+        "people": [], "kinds": [], "ranks": [], "holds": [], "wishes": [], "free": [], "places": ["kind"],
+        "with_wishes": ["person", "wishes"], "__eq__": None}},
 }
 
 MADE_BY_CALLERS = {
@@ -89,6 +140,9 @@ MADE_BY_CALLERS = {
     "Known": ["course"],
     "Meeting": ["office", "people", "free"],
     "Ledger": ["deeds"],
+    "Queues": ["holdings", "items"],
+    "Debts": ["coins", "debts"],
+    "Exchange": ["ranks", "holds", "wishes", "free"],
 }
 
 
