@@ -50,7 +50,9 @@ class Queues:
 
     def given(self, member, thing, many):
         """The queues in which a member holds so many more of a thing."""
-        check_names(member, thing)
+        for name in (member, thing):
+            if not is_name(name):
+                raise BadName(name)
         if not is_integer(many) or many < 0:
             raise BadNumber(many)
         holdings = self.holdings()
@@ -67,14 +69,6 @@ class Queues:
     def _legs(self):
         """The list of all legs of all items."""
         return [leg for item in self._items for leg in item]
-
-
-def check_names(member, thing):
-    """Raise BadName for the first of both that is no name."""
-    if not is_name(member):
-        raise BadName(member)
-    if not is_name(thing):
-        raise BadName(thing)
 
 
 def _check_holdings(holdings):

@@ -81,7 +81,7 @@ def rings(exchange, way=()):
 def is_way(exchange, thing):
     """Whether it is a whole way."""
     try:
-        return is_list(thing) and not rings(exchange, thing)
+        return not rings(exchange, thing)
     except BadWay:
         return False
 

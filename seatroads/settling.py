@@ -4,7 +4,7 @@ from itertools import combinations
 
 from seatroads.checks import is_integer, is_list, is_name
 from seatroads.errors import BadName, BadNumber, NotFeasible
-from seatroads.queues import Queues, check_names
+from seatroads.queues import Queues
 from seatroads.waits import Waits
 
 
@@ -84,10 +84,9 @@ def is_paper(queues, thing):
 def freed_by(queues, number, member, thing):
     """The least number that frees an item if a member holds so many more of a thing, None if none does."""
     _check_number(queues, number)
-    check_names(member, thing)
-    # With as many more as it gives in all the member is never short, so yet more are of no use.
+    # With as many more as are given in all the member is never short, so yet more are of no use.
     low = 0
-    high = sum([leg[2] for item in queues.all_items() for leg in item if leg[0] == member and leg[1] == thing])
+    high = sum([leg[2] for item in queues.all_items() for leg in item])
     if number not in paid(queues.given(member, thing, high)):
         return None
     while low < high:

@@ -10,8 +10,7 @@ from seatroads.rounds import Meeting, best, is_full, is_person
 
 def one_more(meeting, person):
     """The walk through the best matching of a further person who came last, and its token."""
-    wishes = meeting.wishes()
-    if not is_person(meeting.office, person) or person[0] in wishes:
+    if not is_person(meeting.office, person) or person[0] in meeting.wishes():
         raise BadPerson(0)
     fuller = Meeting(meeting.office, meeting.people() + [person], meeting.free())
     wishes = fuller.wishes()
@@ -26,7 +25,8 @@ def one_more(meeting, person):
         if other is None:
             return walk, ("taken", kind)
         if other != name:
-            given = _handed_over(given, other, name)
+            del given[other]
+            given[name] = kind
             name = other
             left = list(wishes[name][wishes[name].index(kind) + 1:])
     return walk, ("waits", name)
@@ -58,7 +58,7 @@ def told_otherwise(meeting, name, wishes):
 def told_less(meeting, name):
     """The kinds that a person can come to have by some of their wishes where kinds choose."""
     _check_person(meeting, name)
-    wishes = meeting.wishes()[name]
+    wishes = list(meeting.wishes()[name])
     had = [best(_with_wishes(meeting, name, some), "kinds").get(name)
            for many in range(len(wishes) + 1) for some in combinations(wishes, many)]
     return [kind for kind in wishes if kind in had]
@@ -75,13 +75,6 @@ def _who_goes(meeting, given, kind, name):
         return None
     holders = [other for other in given if given[other] == kind]
     return last_in_rank(meeting.ranked(kind), holders + [name])
-
-
-def _handed_over(given, loser, name):
-    """The matching in which the person has what another one had."""
-    later = {other: given[other] for other in given if other != loser}
-    later[name] = given[loser]
-    return later
 
 
 def _one_more_free(before, then, kind):

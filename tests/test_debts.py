@@ -259,6 +259,31 @@ class SettlementTest(unittest.TestCase):
             for by_coins in (False, True):
                 self.assertIs(is_settlement(debts, thing, by_coins), False, thing)
         self.assertIs(is_settlement(debts, [other, ring], True), False)
+        for many in (0, -1):
+            for step in [("pay", "a", many), ("ring", ("a", "b"), many), ("pay", "b", many)]:
+                self.assertIs(is_settlement(debts, [step, ring, other]), False)
+                self.assertIs(is_settlement(debts, [ring, other, step]), False)
+                self.assertIs(is_settlement(debts, [step, ring], True), False)
+        for word in ("give", None, 1, "rings", ["ring"]):
+            self.assertIs(is_settlement(debts, [(word, ("a", "b"), 1), other]), False)
+            self.assertIs(is_settlement(debts, [(word, "a", 1), ("pay", "b", 1), other]), False)
+
+    def test_longer_names(self):
+        debts = Debts({"ann": 3}, {"ann": [("bob", 2), ("cleo", 2)], "bob": [("cleo", 1)], "cleo": [("dan", 9)]})
+        steps = settlement(debts)
+        self.assertIs(is_settlement(debts, steps), True)
+        self.assertEqual(sorted(steps), [("pay", "ann", 1), ("pay", "ann", 2), ("pay", "bob", 1), ("pay", "cleo", 2)])
+        self.assertEqual(least_payments(debts), {"ann": 3, "bob": 1, "cleo": 2, "dan": 0})
+        ring = Debts({}, {"ann": [("bob", 2)], "bob": [("ann", 2)]})
+        self.assertEqual(settlement(ring), [("ring", ("ann", "bob"), 2)])
+        self.assertEqual(settlement(ring, True), [])
+        self.assertEqual(loose_rings(ring), [(("ann", "bob"), 2)])
+
+    def test_each_pays_once_along_a_row(self):
+        """What keeps settlements short: who gets nothing more pays first."""
+        names = "gabcdef"
+        debts = Debts({name: 1 for name in names}, {name: [(names[place + 1], 99)] for place, name in enumerate(names[:6])})
+        self.assertEqual(settlement(debts), [("pay", name, place + 1) for place, name in enumerate(names[:6])])
 
     def test_a_coin_that_comes_to_a_ring(self):
         debts = Debts({"z": 1}, {"z": [("b", 1)], "a": [("b", GREAT)], "b": [("a", GREAT)]})
@@ -338,6 +363,19 @@ class LooseRingsTest(unittest.TestCase):
             self.assertEqual(how_many_payments(told.debts), len(found))
             numbers.add(len(found))
         self.assertLessEqual({1, 2, 3, 4, 5, 6, 7}, numbers)
+
+    def test_all_payments_are_behind_rings_perhaps_in_part(self):
+        for told in small_debts(125, 200):
+            found, ahead = [], [told.least()]
+            while ahead:
+                payments = ahead.pop()
+                if payments in found:
+                    continue
+                found.append(payments)
+                for members, _ in Steps(told, payments).rings():
+                    ahead.append({member: many + (member in members) for member, many in payments.items()})
+            self.assertEqual(sorted(tuple(one.values()) for one in found),
+                             sorted(tuple(one.values()) for one in told.all_payments()))
 
     def test_great_numbers(self):
         debts = Debts({}, {"a": [("b", GREAT), ("c", 3)], "b": [("a", GREAT)], "c": [("a", 2)],

@@ -111,6 +111,7 @@ class StableOnesTest(unittest.TestCase):
         both_better(meeting, one, one)["x"] = "b"
         both_worse(meeting, one, one)["x"] = "b"
         self.assertEqual(list(one.items()), [("y", "b"), ("x", "a")])
+        self.assertEqual([list(both_better(meeting, one, one)), list(both_worse(meeting, one, one))], [["x", "y"]] * 2)
         stable_ones(meeting)[0]["x"] = "b"
         stable_at(meeting, 0).clear()
         for told in (stable_ones, turns, needs, can_pairs):

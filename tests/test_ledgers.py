@@ -301,6 +301,23 @@ class KnownWhenTest(unittest.TestCase):
                     call()
                 self.assertIs(caught.exception.time, thing)
 
+    def test_errors_where_nothing_is_written(self):
+        for ledger in (Ledger(), Ledger([("close", 1, 1)])):
+            for thing in BAD_TIMES:
+                for call in [lambda: ledger.known_steps("ann", "coin", thing),
+                             lambda: ledger.first_below("ann", "coin", 0, thing)]:
+                    with self.assertRaises(BadTime):
+                        call()
+            for thing in [None, 1, True, False]:
+                with self.assertRaises(BadFloor):
+                    ledger.seen_below("ann", "coin", thing)
+            with self.assertRaises(BadAccount):
+                ledger.known_steps("Ann", "coin", 1)
+            with self.assertRaises(BadName):
+                ledger.seen_below("ann", "Coin", 0)
+            self.assertEqual(ledger.known_steps("ann", "coin", 1), [])
+            self.assertIsNone(ledger.seen_below("ann", "coin", 0))
+
     def test_within_the_limits(self):
         accounts = ["p" + str(number) for number in range(24)]
         great = 10 ** 18 - 1

@@ -121,6 +121,10 @@ class ExchangeTest(unittest.TestCase):
             with self.assertRaises(BadWishes) as caught:
                 exchange.with_wishes("ann", row)
             self.assertEqual(caught.exception.thing, "ann")
+        name = "".join(["a", "nn"])
+        with self.assertRaises(BadWishes) as caught:
+            exchange.with_wishes(name, ["a"])
+        self.assertIs(caught.exception.thing, name)
 
     def test_equality(self):
         exchange = example()

@@ -315,6 +315,13 @@ class RefusalsTest(unittest.TestCase):
                 continue
             self.assertIs(is_refusals(meeting, paper), False, paper)
 
+    def test_strings_and_dicts_are_no_lists_of_others(self):
+        meeting = Meeting(Office({"a": ["points"]}), [("x", ["a"], 1, None), ("y", ["a"], 2, None)], {"a": 1})
+        for others in (["y"], ("y",)):
+            self.assertIs(is_refusals(meeting, [("x", "a", others)]), True)
+        for others in ("y", {"y": 1}, None, 1, True, meeting):
+            self.assertIs(is_refusals(meeting, [("x", "a", others)]), False)
+
     def test_others_are_unlike(self):
         meeting = Meeting(OFFICE, [ANN, CLEO, ("dan", ["a"], 4, None)], {"a": 2})
         self.assertIs(is_refusals(meeting, [("ann", "a", ("cleo", "dan"))]), True)

@@ -245,6 +245,7 @@ class PaperTest(unittest.TestCase):
                 [first, first], [first, (1, ("behind", False))], [first, (1, ("behind", 0, 0))], [first, (1, ("behind",))],
                 [(1, ("behind", 0)), first], [first, (2, ("behind", 0))], [first, (1, ("behind", 1))],
                 [first, (1, ("behind", [0]))], [first, (1, ("behind", 7))], [first, (1, ("after", 0))], [first, 1],
+                [(0, ("after", "a", "coin"))], [(0, (None, "a", "coin"))], [(0, (["short"], "a", "coin"))],
                 [(2, ("short", "a", "coin"))], [(0, ("short", "b", "seat"))], {0: ("short", "a", "coin")}, "ab",
                 [("0", ("short", "a", "coin"))], [([0], ("short", "a", "coin"))], [(0, {}), first], [(0, ([],))],
                 [(0, ("short", "a", "coin"), 0)], [(0, ("short", None, None))]]:
