@@ -17,7 +17,8 @@ class Run:
         events = whole.events()
         for time in events:
             standing.hear(time, events[time])
-            self._stages.append((time, standing.people(), standing.free()))
+            self._stages.append((time, standing.people(), standing.free(), standing.is_gathered()))
+        self._placed = standing.placed()
         self._letters = standing.letters()
         comers = [name_told(event) for event in events.values()]
         self._letter_of = {name: None for name in comers if name is not None}
@@ -30,20 +31,18 @@ class Run:
 
     def waiting(self, time):
         """The names of those who wait behind the events up to a time, in the order of their times."""
-        people, _ = self._behind(time)
-        return [person[0] for person in people]
+        return [person[0] for person in self.people(time)]
 
     def free(self, time):
         """The ascending dict of the numbers of free places behind the events up to a time."""
-        _, free = self._behind(time)
+        _, free, _ = self._behind(time)
         return dict(free)
 
     def list_of(self, kind, time):
         """The names of those who wait then and let the kind, the first in its rank first."""
         if kind not in self.whole.office:
             raise BadKind(kind)
-        people, _ = self._behind(time)
-        return names_in_rank(self.whole.office, kind, people)
+        return names_in_rank(self.whole.office, kind, self.people(time))
 
     def letter_of(self, name):
         """The letter of somebody who comes in the course, None if they have none."""
@@ -55,19 +54,33 @@ class Run:
         """The names of all who come in the course, in the order of their times."""
         return list(self._letter_of)
 
+    def people(self, time):
+        """The tuples (name, wishes, points, home, time) of those who wait, in the order of their times."""
+        people, _, _ = self._behind(time)
+        return list(people)
+
+    def placed(self, time):
+        """The pairs (person, kind) of the letters up to a time, people as they were when they were placed."""
+        return [(person, kind) for came, person, kind in self._placed if came <= time]
+
+    def is_gathered(self, time):
+        """Whether lists are being gathered behind the events up to a time."""
+        _, _, is_gathered = self._behind(time)
+        return is_gathered
+
     def __eq__(self, other):
         return isinstance(other, Run) and self.whole == other.whole
 
     def _behind(self, time):
-        """The people who wait, and the free places, behind the events up to a time."""
+        """The people who wait, the free places, and whether lists are gathered, behind the events up to a time."""
         if not is_time(time):
             raise BadTime(time)
-        people, free = [], {}
-        for heard, waiting, rooms in self._stages:
+        behind = ([], {}, False)
+        for heard, people, free, is_gathered in self._stages:
             if heard > time:
                 break
-            people, free = waiting, rooms
-        return people, free
+            behind = (people, free, is_gathered)
+        return behind
 
 
 def run_of(course):

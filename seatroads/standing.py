@@ -5,19 +5,19 @@ from seatroads.ranking import names_in_rank
 
 
 class Standing:
-    """An office amid its course; at first nobody waits, and nothing is free.
+    """An office amid its course; at first these people wait, and these places are free.
 
-    People are told as tuples (name, wishes, points, home, time).
+    People are told as tuples (name, wishes, points, home, time), in the order of their times.
     """
 
-    def __init__(self, office):
+    def __init__(self, office, people=(), free=()):
         self._office = office
         # People stand in the order of their times, for each new one comes last.
-        self._waiting = {}
+        self._waiting = {person[0]: person for person in people}
         # Kinds without a free place are left out.
-        self._free = {}
+        self._free = dict(free)
         self._gathered = False
-        self._letters = []
+        self._placed = []
 
     def people(self):
         """The list of those who wait, in the order of their times."""
@@ -29,7 +29,15 @@ class Standing:
 
     def letters(self):
         """The list of the letters so far, in the order in which they came."""
-        return list(self._letters)
+        return [(time, person[0], kind) for time, person, kind in self._placed]
+
+    def placed(self):
+        """The list of the triples (time, person, kind) of the letters, people as they were then."""
+        return list(self._placed)
+
+    def is_gathered(self):
+        """Whether lists are being gathered."""
+        return self._gathered
 
     def hear(self, time, event):
         """Hear one event more, at a time behind all others."""
@@ -58,7 +66,7 @@ class Standing:
             self._waiting[name] = person
         else:
             self._take_away(there[0])
-            self._letters.append((time, name, there[0]))
+            self._placed.append((time, person, there[0]))
 
     def _bring(self, time, kind):
         letting = names_in_rank(self._office, kind, self.people())
@@ -68,8 +76,7 @@ class Standing:
             self._give(time, letting[0], kind)
 
     def _give(self, time, name, kind):
-        del self._waiting[name]
-        self._letters.append((time, name, kind))
+        self._placed.append((time, self._waiting.pop(name), kind))
 
     def _take_away(self, kind):
         """One free place of the kind less, if there is one."""

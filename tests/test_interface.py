@@ -5,9 +5,13 @@ import inspect
 import unittest
 
 from seatroads.courses import Course
+from seatroads.halls import end
+from seatroads.judged import judged
 from seatroads.ledgers import Ledger
+from seatroads.letters import Told
 from seatroads.offices import Office
 from seatroads.roads import roads
+from seatroads.rules import Table
 from seatroads.runs import run_of
 
 FUNCTIONS = {
@@ -96,6 +100,63 @@ FUNCTIONS = {
         "how_many_ways": ["exchange"],
         "outcome": ["exchange"],
     },
+    "exchanges": {
+        "bettered": ["exchange", "outcome"],
+        "group": ["exchange", "outcome"],
+        "options": ["exchange", "person"],
+        "hangs": ["exchange", "person"],
+        "otherwise": ["exchange", "person", "other"],
+        "exchange_of": ["run", "time"],
+        "items_of": ["exchange", "way", "table"],
+        "queues_of": ["exchange", "way", "table", "coins"],
+    },
+    "halls": {
+        "is_hall": ["office", "thing"],
+        "hall_of": ["run", "time"],
+        "end": ["office", "hall", "row"],
+    },
+    "alike": {
+        "alike": ["office", "one", "other"],
+        "parting": ["office", "one", "other"],
+        "worse_behind": ["office", "one", "other", "name"],
+        "swaps": ["office", "row"],
+        "needless": ["office", "row"],
+    },
+    "letters": {"explains": ["told", "wishes"]},
+    "toldback": {
+        "known_of": ["told", "time"],
+        "clash": ["told"],
+        "how_many_told": ["told"],
+        "how_many_at": ["told", "time"],
+        "wishes_at": ["told", "time", "number"],
+        "wish_number": ["told", "time", "wishes"],
+        "least_wishes": ["told"],
+        "may_get": ["told", "kind"],
+        "would_tell": ["told", "kind", "name"],
+    },
+    "rules": {
+        "apart": ["one", "other"],
+        "office_table": ["office", "people"],
+        "other_table": ["office", "people", "rule"],
+    },
+    "judged": {
+        "judged": ["table"],
+        "lists": ["table"],
+    },
+    "back": {
+        "back_run": ["office", "events"],
+        "parted_back": ["office"],
+    },
+    "texts": {
+        "write_office": ["office"],
+        "read_office": ["text"],
+        "write_events": ["events"],
+        "read_events": ["office", "text"],
+        "write_truths": ["truths"],
+        "read_truths": ["office", "text"],
+        "write_letters": ["letters"],
+        "read_letters": ["text"],
+    },
 }
 
 DEFAULTS = {
@@ -132,6 +193,16 @@ CLASSES = {
     "rings": {"Exchange": {
         "people": [], "kinds": [], "ranks": [], "holds": [], "wishes": [], "free": [], "places": ["kind"],
         "with_wishes": ["person", "wishes"], "__eq__": None}},
+    "halls": {"End": {"__eq__": None}},
+    "letters": {"Told": {
+        "letters": [], "events": [], "waiting": ["time"], "free": ["time"], "asked": [], "__eq__": None}},
+    "rules": {"Table": {
+        "comers": [], "row": ["comer", "counts"], "after": ["book", "comer"], "after_all": ["book", "comers"],
+        "__eq__": None}},
+    "judged": {"Fault": {}},
+    "live": {"Desk": {
+        "tell": ["truth"], "course": [], "run": [], "ledger": [], "told": [], "undo": [], "again": [], "copy": [],
+        "trial": ["work"], "__len__": []}},
 }
 
 MADE_BY_CALLERS = {
@@ -143,7 +214,12 @@ MADE_BY_CALLERS = {
     "Queues": ["holdings", "items"],
     "Debts": ["coins", "debts"],
     "Exchange": ["ranks", "holds", "wishes", "free"],
+    "Told": ["office", "events", "letters"],
+    "Table": ["waits", "frees", "depth", "comers"],
+    "Desk": ["office", "fees"],
 }
+
+FILES = sorted(set(FUNCTIONS) | set(CLASSES) | {"errors"})
 
 
 def parameters(function):
@@ -190,6 +266,37 @@ class InterfaceTest(unittest.TestCase):
         self.assertEqual(inspect.signature(Ledger).parameters["deeds"].default, ())
         road, = roads(course, [("strike", 1)])
         self.assertEqual(sorted(vars(road)), ["higher", "steps", "truth"])
+        self.assertIs(Told(office, {}, []).office, office)
+        found = end(office, ([], {}), [])
+        self.assertEqual((found.got, found.waits, found.rooms), ({}, [], {}))
+        table = Table(["x"], ["a"], 2, {})
+        self.assertEqual((table.waits, table.frees, table.depth), (("x",), ("a",), 2))
+        fault = judged(Table([], ["a"], 1, {("person", "x"): {(0,): ((0,), ()), (1,): ((0,), ())}}))
+        self.assertIsNone(fault)
+        fault = judged(Table(["x"], ["a"], 1, {("person", "x"): {(0,): ((0,), (0,)), (1,): ((0,), (1,))}}))
+        self.assertEqual((fault.book, fault.token, fault.comer), (((0,), (1,)), ("free", "a"), ("person", "x")))
+
+    def test_everything_can_be_called_by_place_and_by_name(self):
+        for file in FILES:
+            module = importlib.import_module("seatroads." + file)
+            made = [getattr(module, name) for name in list(FUNCTIONS.get(file, {})) + list(CLASSES.get(file, {}))]
+            made += [vars(getattr(module, name))[method] for name, methods in CLASSES.get(file, {}).items()
+                     for method in methods]
+            if file == "errors":
+                made += [error for error in vars(module).values()
+                         if inspect.isclass(error) and error.__name__ not in ("OfficeError", "Nothing")]
+            self.assertTrue(made)
+            for function in made:
+                for parameter in inspect.signature(function).parameters.values():
+                    self.assertEqual(parameter.kind, parameter.POSITIONAL_OR_KEYWORD, function)
+
+    def test_defaults_of_methods(self):
+        for file, told in CLASSES.items():
+            module = importlib.import_module("seatroads." + file)
+            for name, methods in told.items():
+                for method in methods:
+                    self.assertIsNone(vars(getattr(module, name))[method].__defaults__)
+        self.assertEqual(len(FILES), 30)
 
 
 if __name__ == "__main__":
