@@ -1,6 +1,7 @@
-"""Section 15: its examples answer as they stand there."""
+"""Section 15 and README.md: their examples answer as they stand there."""
 
 import doctest
+import os
 import unittest
 
 from seatroads.courses import Course
@@ -47,15 +48,24 @@ EXAMPLES = '''
 
 class ExamplesTest(unittest.TestCase):
 
-    def test_the_examples(self):
+    def answer(self, text):
+        """Ask all examples of a text, and tell how many have an answer there."""
         names, answered = {}, 0
-        for example in doctest.DocTestParser().get_examples(EXAMPLES):
+        for example in doctest.DocTestParser().get_examples(text):
             if example.want:
                 self.assertEqual(repr(eval(example.source, names)), example.want.rstrip("\n"))
                 answered += 1
             else:
                 exec(example.source, names)
-        self.assertEqual(answered, 7)
+        return answered
+
+    def test_the_examples(self):
+        self.assertEqual(self.answer(EXAMPLES), 7)
+
+    def test_the_examples_of_the_readme(self):
+        path = os.path.join(os.path.dirname(os.path.abspath(__file__)), "..", "README.md")
+        with open(path, encoding="utf-8") as file:
+            self.assertGreater(self.answer(file.read().replace("```", "")), 15)
 
     def test_the_round_that_is_best_for_people(self):
         ranks = Office({"a": ["points"], "b": ["few"]})
