@@ -137,7 +137,10 @@ def _guests(office, wishes, orders, events):
     for kind, ahead, behind in orders:
         if ahead is None or (kind, behind, ahead) in orders:
             return None
-    seated = _seated(office, wishes, orders, _looks(office, wishes, events), {})
+    # By points and home alone a guest stands as they must among the rows' own people, or does not.
+    looks = [[look for look in _looks(office, wishes, events)
+              if _keeps(office, orders, {}, guest, (None, wishes[guest], *look, -1))] for guest in range(len(wishes))]
+    seated = _seated(office, wishes, orders, looks, {}) if all([len(row) > 0 for row in looks]) else None
     if seated is None:
         return None
     names = _fresh_names(events, len(wishes))
@@ -146,14 +149,17 @@ def _guests(office, wishes, orders, events):
 
 
 def _seated(office, wishes, orders, looks, seated):
-    """The guests as people, in the order in which they came, behind those who are seated; None if they cannot be."""
+    """The guests as people, in the order in which they came, behind those who are seated; None if they cannot be.
+
+    looks are the pairs of points and a home that each guest can have.
+    """
     if len(seated) == len(wishes):
         return seated
     # Each guest came ahead of all the row.
     time = len(seated) - len(wishes)
     for guest in range(len(wishes)):
         if guest not in seated:
-            for points, home in looks:
+            for points, home in looks[guest]:
                 person = (None, wishes[guest], points, home, time)
                 if _keeps(office, orders, seated, guest, person):
                     found = _seated(office, wishes, orders, looks, {**seated, guest: person})

@@ -125,9 +125,7 @@ def _is_rows(thing, looked, others, depth):
     if not isinstance(thing, dict) or len(thing) != how_many_counts(looked, depth):
         return False
     for counts in thing:
-        if not isinstance(counts, tuple) or not is_counts_of(counts, looked, depth):
-            return False
-        if not _is_row(thing[counts], counts, others):
+        if not is_counts_of(counts, looked, depth) or not _is_row(thing[counts], counts, others):
             return False
     return True
 

@@ -111,14 +111,58 @@ class AlikeTest(unittest.TestCase):
         self.assertEqual(parting(OFFICE, one + other, one), ([], {"a": 3}))
         self.assertEqual(parting(OFFICE, one + one + other, one + one), ([], {"a": 5}))
 
+    def test_one_free_place_is_fewer_than_two_people(self):
+        for ranks, one, at, wanted in [
+                ({"a": ["late"], "b": ["points", "late"]},
+                 [("place", "b"), ("place", "b"), come("y", "ab", 1), come("x", "a")], 2, {"a": 1}),
+                ({"a": ["points", "late"], "b": ["points"]},
+                 [("place", "a"), come("x", "a", 1), come("y", "ab", 0, "a"), ("place", "a")], 1, {"b": 1})]:
+            other = one[:at] + [one[at + 1], one[at]] + one[at + 2:]
+            self.assertEqual(parting(Office(ranks), one, other), ([], wanted))
+            two = [hall for hall in all_halls(sorted(ranks), [0, 1, 2, 3], [None], 2, 0)
+                   if unlike(ranks, hall, one, other)]
+            self.assertTrue(two)
+
+    def test_by_what_people_of_the_hall_get_alone(self):
+        # What is left of the rows' own people and of the places is the same.
+        hall = parting(OFFICE, [("place", "a"), ("withdraw", "a")], [])
+        self.assertEqual((len(hall[0]), hall[1]), (1, {}))
+        one = [("place", "a"), ("place", "b"), ("withdraw", "a"), ("withdraw", "b")]
+        hall = parting(OFFICE, one, [one[1], one[0], one[2], one[3]])
+        self.assertEqual((len(hall[0]), sorted(hall[0][0][1]), hall[1]), (1, ["a", "b"], {}))
+        self.assertTrue(unlike(TWO, hall, one, [one[1], one[0], one[2], one[3]]))
+
+    def test_points_above_and_below_all_of_the_row(self):
+        # Only who is ahead of x for a takes either place that comes first.
+        for words, points, wanted in [(["points", "late"], 5, lambda told: told > 5), (["points", "late"], 10 ** 6, None),
+                                      (["points", "late"], 10 ** 6 - 1, lambda told: told == 10 ** 6),
+                                      (["few", "late"], 5, lambda told: told < 5), (["few", "late"], 0, None),
+                                      (["few", "late"], 1, lambda told: told == 0)]:
+            ranks = {"a": words, "b": []}
+            row = [come("x", "a", points), come("y", "b"), ("place", "a"), ("place", "b")]
+            hall = parting(Office(ranks), row, [row[0], row[1], row[3], row[2]])
+            self.assertEqual(hall is None, wanted is None)
+            if wanted is not None:
+                self.check_hall(ranks, hall, row, row)
+                self.assertTrue(len(hall[0]) == 1 and wanted(hall[0][0][2]))
+
     def test_names_of_the_rows_stand_in_no_hall(self):
-        office = Office({"a": []})
-        one = [("leave", "0"), ("change", "1", ("a",)), come("2", "a"), ("place", "a")]
-        hall = parting(office, one, one[:2] + one[:1:-1])
-        self.assertIsNone(hall)
-        one = [("leave", "0"), come("1", "a"), ("place", "a"), ("leave", "1")]
-        hall = parting(Office({"a": ["points"]}), one, [])
-        self.check_hall({"a": ["points"]}, hall, one, [])
+        one = [come("0", "a", 1), ("place", "a"), ("leave", "1"), ("change", "2", ("a",))]
+        hall = parting(OFFICE, one, [one[1], one[0], one[2], ("leave", "3")])
+        self.assertEqual(len(hall[0]), 1)
+        self.assertFalse({hall[0][0][0]} & {"0", "1", "2", "3"})
+        self.check_hall(TWO, hall, one, [("leave", "3")])
+
+    def test_tuples_and_lists_mean_the_same(self):
+        one = [come("x", "a", 1), ("place", "a"), ("leave", "y")]
+        other = [one[1], one[0]]
+        hall = parting(OFFICE, one, other)
+        for first, second in [(tuple(one), other), (one, tuple(other)), (tuple(one), tuple(other)),
+                              ([list(event) for event in one], tuple(list(event) for event in other))]:
+            self.assertEqual(parting(OFFICE, first, second), hall)
+            self.assertEqual(worse_behind(OFFICE, first, second, "x"), worse_behind(OFFICE, one, other, "x"))
+        self.assertEqual((swaps(OFFICE, tuple(one)), needless(OFFICE, tuple(one))),
+                         (swaps(OFFICE, one), needless(OFFICE, one)))
 
     def test_against_all_small_halls(self):
         sizes, alikes = {}, 0

@@ -172,6 +172,15 @@ class BetteredTest(unittest.TestCase):
             self.assertTrue(is_bettering(told, holds, (people, kind)))
             self.assertTrue(is_group(told, holds, group(exchange, holds)))
 
+    def test_as_few_as_can_be_where_others_stand_nearer(self):
+        # p0 and p1 could exchange, but each of them likes first what leads to them by a longer way.
+        names = ["p0", "p1", "p5", "p6"]
+        holds = {name: "k" + name[1] for name in names}
+        wishes = {"p0": ["k5", "k1"], "p1": ["k5", "k0"], "p5": ["k6"], "p6": ["k0", "k1"]}
+        exchange = Exchange({kind: names for kind in holds.values()}, holds, wishes, {})
+        self.assertEqual(sorted(bettered(exchange, holds)[0]), ["p0", "p1"])
+        self.assertEqual(sorted(group(exchange, holds)), ["p0", "p1"])
+
     def test_what_people_come_to_have_is_bettered_by_nothing_whatever_ranks_are_told(self):
         draw = DrawExchanges(152)
         for told in small_exchanges(153, 120):
@@ -213,6 +222,9 @@ class OwnWishesTest(unittest.TestCase):
                 with self.assertRaises(NoPerson) as caught:
                     call()
                 self.assertIs(caught.exception.name, thing)
+        for function in (options, hangs):
+            with self.assertRaises(NoPerson):
+                function(Exchange({}, {}, {}, {}), "ann")
 
     def test_against_all_wishes(self):
         sizes = set()

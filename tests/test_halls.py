@@ -164,6 +164,12 @@ class EndTest(unittest.TestCase):
             self.assertIs(found == other, False)
             self.assertIs(other == found, False)
 
+    def test_ends_are_unlike_by_who_got_which_kind_alone(self):
+        row = [("place", "a"), ("place", "b"), come("x", "ab"), come("y", "ba")]
+        one, other = [end(OFFICE, ([], {}), told) for told in (row, row[:2] + [come("y", "ab"), come("x", "ba")])]
+        self.assertEqual((one.waits, one.rooms), (other.waits, other.rooms))
+        self.assertIs(one == other, False)
+
     def test_against_a_going_of_its_own(self):
         draw = DrawRows(162)
         for number in range(400):

@@ -62,6 +62,21 @@ class JudgedTest(unittest.TestCase):
         self.assertEqual((size_of(found.book), found.comer), (6, ("person", "z")))
         self.assertEqual(found.book[1], (3, 3))
 
+    def test_as_few_as_can_be_of_those_who_wait_and_of_free_places_together(self):
+        # The place that comes needs two who wait to lose the token, the person one free place.
+        place = {counts: ((0, 0), (1,)) for counts in counts_of(2, 2)}
+        place[1, 2] = ((1, 1), (0,))
+        person = {(0,): ((0,), (0, 0)), (1,): ((0,), (1, 0)), (2,): ((0,), (1, 0))}
+        one = Table(["x", "y"], ["a"], 2, {("place", "z"): place})
+        self.assertEqual(size_of(judged(one).book), 2)
+        both = Table(["x", "y"], ["a"], 2, {("place", "z"): place, ("person", "z"): person})
+        self.assertEqual((judged(both).book, judged(both).comer), (((0, 0), (1,)), ("person", "z")))
+        person = {(0,): ((0,), (0, 0)), (1,): ((0,), (0, 0)), (2,): ((0,), (0, 0)), (3,): ((0,), (1, 0))}
+        place = {counts: ((0, 0), (1,)) for counts in counts_of(2, 3)}
+        place[1, 1] = ((1, 1), (0,))
+        both = Table(["x", "y"], ["a"], 3, {("place", "z"): place, ("person", "z"): person})
+        self.assertEqual((size_of(judged(both).book), judged(both).comer), (1, ("place", "z")))
+
     def test_equal_behind_a_comer_is_no_fault(self):
         # The one of x and the free place of a are gone behind it, whether they were there or not.
         rows = {(0,): ((0,), (0,)), (1,): ((1,), (0,))}

@@ -166,6 +166,8 @@ class BadLettersTest(unittest.TestCase):
         self.check([(2, "ann", "pool")], 0, events)
         self.check([(2, "ann", "gym"), (3, "bob", "gym")], 1, events)
         self.check([(1, "ann", "gym")], 0, events)
+        for kind in odd_objects() + [["gym"], {"gym": 1}]:
+            self.check([(2, "ann", kind)], 0, events)
 
     def test_at_a_change_of_one_who_waits(self):
         events = {1: ("come", "ann", 0, None), 2: ("place", "gym"), 3: ("change", "ann"), 4: ("change", "bob"),
@@ -217,7 +219,7 @@ class ExplainsTest(unittest.TestCase):
 
     def test_no_such_dicts(self):
         for thing in odd_objects() + [
-                {1: ["gym"]}, {1: ["gym"], 2: [], 3: []}, {1: ["gym"], 2: ["gym"]}, {1: ["gym"], 2: ["pool"]},
+                {1: ["gym"]}, {1: ["gym"], 2: [], 3: []}, {1: ["gym"], 3: []}, {1: ["gym"], 9: []}, {1: ["gym"], 2: ["gym"]}, {1: ["gym"], 2: ["pool"]},
                 {1: ["pool"], 2: []}, {1: "gym", 2: []}, {1: ["gym"], 2: None}, {1: ["gym", "gym"], 2: []},
                 {1: ["bath", "gym"], 2: []}, {True: ["gym"], 2: []}, {"1": ["gym"], 2: []}, [(1, ["gym"]), (2, [])],
                 {1: [["gym"]], 2: []}, {1: ["gym"], None: []}, {1: ["gym"], (2,): []}]:

@@ -68,7 +68,7 @@ class TableTest(unittest.TestCase):
         wrong = [None, True, [], (), "x", 3, list(ROWS.items()), table()]
         for key in ["x", None, 1, ("person",), ("person", "x", "y"), ("Person", "x"), ("person", "X"), ("person", None),
                     (None, "x"), ("waits", "x"), (("person",), "x")]:
-            wrong.append({key: ROWS["person", "x"]})
+            wrong += [{key: ROWS["person", "x"]}, {key: ROWS["place", "a"]}]
         for rows in [None, [], {}, list(ROWS["person", "x"].items()), {(0,): ((0,), (1, 0))}]:
             wrong.append({("person", "x"): rows})
         person, place = ("person", "x"), ("place", "a")
@@ -109,7 +109,7 @@ class TableTest(unittest.TestCase):
                                                           for key, rows in reversed(list(ROWS.items()))}), True)
         swapped = {("person", "x"): ROWS["person", "x"], ("place", "a"): {
             counts[::-1]: (row[0][::-1], row[1]) for counts, row in ROWS["place", "a"].items()}}
-        for other in [Table(["y", "x"], ["a"], 1, swapped), Table(["x", "y"], ["b"], 1, ROWS), Table(["x", "y"], ["a"], 1, {}),
+        for other in [Table(["y", "x"], ["a"], 1, swapped), Table(["y", "x"], ["a"], 1, ROWS), Table(["x", "y"], ["b"], 1, ROWS), Table(["x", "y"], ["a"], 1, {}),
                       Table(["x", "y"], ["a"], 1, changed(("person", "x"), (0,), ((0,), (0, 0)))),
                       Table(["x"], ["a"], 1, {})] + odd_objects():
             self.assertIs(one == other, False)

@@ -214,7 +214,7 @@ class BadTextTest(unittest.TestCase):
                 "5 come x () - -", "5 come X () 0 -", "5 come x () 0 - ", "5 come x () 0 -\t", "5 come  x () 0 -",
                 "5  come x () 0 -", "05 place a", "-5 place a", "+5 place a", "5.0 place a", "1000001 place a",
                 "99999999999999999999 place a", "place a", "5 place", "5 place c", "5 place a b", "5 place -", "5 place (a)",
-                "5 leave", "5 leave X", "5 leave x y", "5 withdraw", "5 withdraw x", "5 change x", "5 change x a",
+                "5 change", "5 leave", "5 leave X", "5 leave x y", "5 withdraw", "5 withdraw x", "5 change x", "5 change x a",
                 "5 change x (a) 0", "5 change (a)", "5 change x (x)", "5 change x (", "5 change x )", "5 gather a", "5 round ",
                 "5 gathers", "five place a", "5 come x () ", "5 come () 0 -", "5 come x (a) (b) 0 -", "_5 place a", "5_0 place a"]:
             self.check("events", "4 round\n" + line + "\nx", 2)

@@ -281,6 +281,8 @@ class NextTest(unittest.TestCase):
 
     def test_where_it_clashes_nobody_can(self):
         self.assertEqual(may_get(clashing(), "gym"), [])
+        for call in (lambda: may_get(clashing(), "bath"), lambda: would_tell(clashing(), "bath", "ann")):
+            self.assertRaises(BadKind, call)
         for name in (None, "ann", "bob"):
             with self.assertRaises(NoPerson) as caught:
                 would_tell(clashing(), "gym", name)
